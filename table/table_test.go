@@ -1,0 +1,40 @@
+package table
+
+import (
+	"testing"
+
+	"unfold/api"
+)
+
+// P4: each rule of a well-formed table, kept just so and just broken.
+func TestWellFormed(t *testing.T) {
+	const most = 1<<63 - 1
+	for _, c := range []struct {
+		why string
+		l   []api.Span
+		ok  bool
+	}{
+		{"nil", nil, false},
+		{"empty", []api.Span{}, false},
+		{"the least", []api.Span{{Value: 0, Len: 1}}, true},
+		{"the greatest Value", []api.Span{{Value: api.MaxValue, Len: 1}}, true},
+		{"a Value too great", []api.Span{{Value: api.MaxValue + 1, Len: 1}}, false},
+		{"a Value below 0", []api.Span{{Value: -1, Len: 1}}, false},
+		{"a later Value below 0", []api.Span{{Value: 1, Len: 1}, {Value: -1, Len: 1}}, false},
+		{"a Len 0", []api.Span{{Value: 1, Len: 0}}, false},
+		{"a later Len 0", []api.Span{{Value: 1, Len: 1}, {Value: 2, Len: 0}}, false},
+		{"a Len below 0", []api.Span{{Value: 1, Len: 5}, {Value: 2, Len: -1}}, false},
+		{"Lens just as many", []api.Span{{Value: 1, Len: 999}, {Value: 2, Len: 1}}, true},
+		{"one Len too great", []api.Span{{Value: 1, Len: 1001}}, false},
+		{"Lens together too many", []api.Span{{Value: 1, Len: 999}, {Value: 2, Len: 2}}, false},
+		{"Lens that overflow", []api.Span{{Value: 1, Len: most}, {Value: 2, Len: most}, {Value: 1, Len: 3}}, false},
+		{"one and all", []api.Span{{Value: 1, Len: 1}, {Value: 2, Len: most}}, false},
+		{"neighbours alike", []api.Span{{Value: 0, Len: 1}, {Value: 0, Len: 1}}, false},
+		{"later neighbours alike", []api.Span{{Value: 0, Len: 1}, {Value: 3, Len: 1}, {Value: 3, Len: 2}}, false},
+		{"alike, but no neighbours", []api.Span{{Value: 3, Len: 1}, {Value: 0, Len: 1}, {Value: 3, Len: 1}}, true},
+	} {
+		if ok := WellFormed(c.l); ok != c.ok {
+			t.Errorf("%s: WellFormed(%v) = %t", c.why, c.l, ok)
+		}
+	}
+}
