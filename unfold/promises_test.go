@@ -3,6 +3,7 @@ package unfold_test
 import (
 	"bytes"
 	"math/rand"
+	"reflect"
 	"slices"
 	"testing"
 
@@ -59,6 +60,71 @@ func TestP1TablesAtAllInputs(t *testing.T) {
 	}
 }
 
+// spoilt is a program in which some numbers, texts or lists are other ones.
+func spoilt(r *rand.Rand) api.Program {
+	p := drawnProgram(r)
+	for range r.Intn(3) {
+		l := fields(p)
+		*l[r.Intn(len(l))] = numbers[r.Intn(len(numbers))]
+	}
+	f := &p.Funcs[r.Intn(len(p.Funcs))]
+	switch r.Intn(12) {
+	case 0:
+		f.Name = string(drawnBytes(r))
+	case 1:
+		f.File = string(drawnBytes(r))
+	case 2:
+		f.Name = p.Funcs[0].Name
+	case 3:
+		f.Body = f.Body[:r.Intn(len(f.Body)+1)]
+	case 4:
+		o := &f.Body[r.Intn(len(f.Body))]
+		o.Args = append(slices.Clone(o.Args), 0)
+	}
+	return p
+}
+
+func TestP1ProgramsAtAllInputs(t *testing.T) {
+	r := rand.New(rand.NewSource(5))
+	var seen [3]int
+	for range 20000 {
+		p := spoilt(r)
+		e, f, s := unfold.Check(p)
+		if wantE, wantF, wantS := toldCheck(p); e != wantE || f != wantF || s != wantS {
+			t.Fatalf("Check(%+v) = %d, %d, %d, want %d, %d, %d", p, e, f, s, wantE, wantF, wantS)
+		}
+		args := drawnArgs(r, p)
+		if len(args) > 0 && r.Intn(3) == 0 {
+			args[r.Intn(len(args))] = numbers[r.Intn(len(numbers))]
+		}
+		n := numbers[r.Intn(len(numbers))]
+		state, runE := unfold.Run(p, args, n)
+		want := e
+		if e == api.OK && (n < 0 || n > 2000 || slices.ContainsFunc(args, func(v int) bool { return v < 0 || v > 999 })) {
+			want = api.ErrArg
+		}
+		if runE != want {
+			t.Fatalf("Run(%+v, %v, %d): %d, want %d", p, args, n, runE, want)
+		}
+		if runE != api.OK && (state.Status != 0 || state.Value != 0 || len(state.Frames) != 0) {
+			t.Fatalf("Run(%+v, %v, %d) = %+v beside the error %d", p, args, n, state, runE)
+		}
+		switch {
+		case e != api.OK:
+			seen[0]++
+		case runE != api.OK:
+			seen[1]++
+		default:
+			seen[2]++
+		}
+	}
+	for k, times := range seen {
+		if times < 500 {
+			t.Errorf("of kind %d there were %d runs", k, times)
+		}
+	}
+}
+
 // Where two errors apply, the first that is named is the answer.
 func TestP1FirstError(t *testing.T) {
 	if _, e := unfold.At(spans(1, 0), -1); e != api.ErrTable {
@@ -90,6 +156,16 @@ func TestP1LongLists(t *testing.T) {
 	if v, e := unfold.At(l, 0); e != api.ErrTable || v != 0 {
 		t.Errorf("At of many spans: %d, %d", v, e)
 	}
+	p := small()
+	p.Funcs[2].Body[0].Args = make([]int, 1<<20)
+	runs(t, p, []int{6}, 7, api.Done, 3, "")
+	p.Funcs[0].Body[0].Args = make([]int, 1<<20)
+	if e, f, s := unfold.Check(p); e != api.ErrOp || f != 0 || s != 0 {
+		t.Errorf("Check with many Args: %d, %d, %d", e, f, s)
+	}
+	if _, e := unfold.Run(small(), make([]int, 1<<20), 1); e != api.ErrArg {
+		t.Errorf("Run of many args: %d", e)
+	}
 }
 
 // A list of nothing may be nil or empty.
@@ -108,6 +184,17 @@ func TestNothing(t *testing.T) {
 		}
 		if _, e := unfold.At(l, 0); e != api.ErrTable {
 			t.Errorf("At of nothing: %d", e)
+		}
+	}
+	for _, l := range [][]int{nil, {}, make([]int, 0, 9)} {
+		runs(t, one(0, 1, ret(1, 0)), l, 1, api.Done, 0, "")
+		// The Args of a Call of a function without parameters.
+		p := one(0, 1, op(api.Jump, 1, 0, 2, 0), call(2, 0, 0, l...), ret(3, 0))
+		runs(t, p, l, 2, api.Runs, 0, "f f 1, f f 2")
+	}
+	for _, l := range [][]api.Func{nil, {}, make([]api.Func, 0, 9)} {
+		if e, f, s := unfold.Check(api.Program{Funcs: l}); e != api.ErrFuncs || f != 0 || s != 0 {
+			t.Errorf("Check of nothing: %d, %d, %d", e, f, s)
 		}
 	}
 }
@@ -137,6 +224,60 @@ func TestP2HandedIn(t *testing.T) {
 		unfold.At(l, 1)
 		if !slices.Equal(rows, keptRows) {
 			t.Fatalf("%v has become %v", keptRows, rows)
+		}
+	}
+}
+
+// roomy is a program whose lists have spare room, and those lists with that room.
+func roomy(p api.Program) (api.Program, []api.Func, [][]api.Op, [][]int) {
+	var bodies [][]api.Op
+	var args [][]int
+	funcs := append(slices.Clone(p.Funcs), api.Func{Name: "room"}, api.Func{Name: "room"})
+	for k := range p.Funcs {
+		body := append(slices.Clone(p.Funcs[k].Body), op(9, 9, 9, 9, 9), op(9, 9, 9, 9, 9))
+		for at := range len(body) - 2 {
+			l := append(slices.Clone(body[at].Args), -9, -9)
+			args = append(args, l)
+			body[at].Args = l[:len(l)-2]
+		}
+		bodies = append(bodies, body)
+		funcs[k].Body = body[:len(body)-2]
+	}
+	return api.Program{Funcs: funcs[:len(p.Funcs)]}, funcs, bodies, args
+}
+
+func TestP2ProgramsAreNotWrittenInto(t *testing.T) {
+	r := rand.New(rand.NewSource(7))
+	for range 2000 {
+		drawn := spoilt(r)
+		p, funcs, bodies, args := roomy(drawn)
+		_, keptFuncs, keptBodies, keptArgs := roomy(drawn)
+		room := append(drawnArgs(r, p), -9, -9)
+		kept := slices.Clone(room)
+		unfold.Check(p)
+		unfold.Run(p, room[:len(room)-2], 2000)
+		if !reflect.DeepEqual(funcs, keptFuncs) || !reflect.DeepEqual(bodies, keptBodies) || !reflect.DeepEqual(args, keptArgs) {
+			t.Fatalf("%+v has become %+v", keptFuncs, funcs)
+		}
+		if !slices.Equal(room, kept) {
+			t.Fatalf("%v has become %v", kept, room)
+		}
+	}
+}
+
+func TestP2RunIsFresh(t *testing.T) {
+	for n := range 8 {
+		p, args := small(), []int{6}
+		first, _ := unfold.Run(p, args, n)
+		second, _ := unfold.Run(p, args, n)
+		want := slices.Clone(first.Frames)
+		spoil(first.Frames, api.Frame{Func: "x", File: "y", Line: -1})
+		third, _ := unfold.Run(p, args, n)
+		p.Funcs[0] = api.Func{Name: "other"}
+		p.Funcs[1].Body[0].Line = 99
+		args[0] = 7
+		if !slices.Equal(second.Frames, want) || !slices.Equal(third.Frames, want) {
+			t.Errorf("Run(.., 6, %d): %v and %v, want %v", n, second.Frames, third.Frames, want)
 		}
 	}
 }

@@ -4,6 +4,8 @@ package unfold
 import (
 	"unfold/api"
 	"unfold/number"
+	"unfold/program"
+	"unfold/run"
 	"unfold/table"
 )
 
@@ -23,10 +25,12 @@ func GetTable(b []byte, at int) ([]api.Span, int, api.Errno) { return table.Get(
 func At(l []api.Span, pc int) (int, api.Errno) { return table.At(l, pc) }
 
 // Check tells whether a program is well-formed (P5).
-func Check(p api.Program) (api.Errno, int, int) { return api.OK, 0, 0 }
+func Check(p api.Program) (api.Errno, int, int) { return program.Check(p) }
 
 // Run runs a program as it is written (P6).
-func Run(p api.Program, args []int, n int) (api.State, api.Errno) { return api.State{}, api.OK }
+func Run(p api.Program, args []int, n int) (api.State, api.Errno) {
+	return run.Behind(p, args, n)
+}
 
 // Encode writes an image (P7).
 func Encode(i api.Image) ([]byte, api.Errno) { return nil, api.OK }
