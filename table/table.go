@@ -36,6 +36,11 @@ func Put(l []api.Span) ([]byte, api.Errno) {
 	if !WellFormed(l) {
 		return nil, api.ErrTable
 	}
+	return Bytes(l), api.OK
+}
+
+// Bytes writes a table of which the caller knows that it is well-formed.
+func Bytes(l []api.Span) []byte {
 	var b []byte
 	before := beforeFirst
 	for _, s := range l {
@@ -44,7 +49,7 @@ func Put(l []api.Span) ([]byte, api.Errno) {
 		b = append(b, number.Bytes(s.Len)...)
 		before = s.Value
 	}
-	return append(b, 0), api.OK
+	return append(b, 0)
 }
 
 // Get reads the table that begins at a place, and tells the place behind it.
@@ -112,4 +117,24 @@ func At(l []api.Span, pc int) (int, api.Errno) {
 		pc = pc - s.Len
 	}
 	return 0, api.ErrArg
+}
+
+// Pcs tells how many pcs a well-formed table has.
+func Pcs(l []api.Span) int {
+	n := 0
+	for _, s := range l {
+		n = n + s.Len
+	}
+	return n
+}
+
+// Values lists the Value of each pc of a well-formed table.
+func Values(l []api.Span) []int {
+	var values []int
+	for _, s := range l {
+		for k := 0; k < s.Len; k++ {
+			values = append(values, s.Value)
+		}
+	}
+	return values
 }

@@ -38,3 +38,29 @@ func TestWellFormed(t *testing.T) {
 		}
 	}
 }
+
+// What a table is taken apart into is what At looks up.
+func TestValues(t *testing.T) {
+	for _, l := range [][]api.Span{
+		{{Value: 0, Len: 1}},
+		{{Value: 3, Len: 1}, {Value: 4, Len: 1}},
+		{{Value: 7, Len: 2}, {Value: 2, Len: 300}, {Value: 7, Len: 1}},
+		{{Value: 9999, Len: 999}, {Value: 0, Len: 1}},
+	} {
+		values := Values(l)
+		if len(values) != Pcs(l) {
+			t.Errorf("Values(%v): %d, and Pcs %d", l, len(values), Pcs(l))
+		}
+		for pc, v := range values {
+			if want, e := At(l, pc); e != api.OK || v != want {
+				t.Errorf("Values(%v)[%d] = %d, want %d, %d", l, pc, v, want, e)
+			}
+		}
+		if _, e := At(l, len(values)); e != api.ErrArg {
+			t.Errorf("At(%v, %d): %d", l, len(values), e)
+		}
+	}
+	if n := Pcs(nil); n != 0 {
+		t.Errorf("Pcs of nothing: %d", n)
+	}
+}

@@ -3,6 +3,8 @@ package unfold
 
 import (
 	"unfold/api"
+	"unfold/frame"
+	"unfold/image"
 	"unfold/number"
 	"unfold/program"
 	"unfold/run"
@@ -33,16 +35,16 @@ func Run(p api.Program, args []int, n int) (api.State, api.Errno) {
 }
 
 // Encode writes an image (P7).
-func Encode(i api.Image) ([]byte, api.Errno) { return nil, api.OK }
+func Encode(i api.Image) ([]byte, api.Errno) { return image.Encode(i) }
 
 // Decode reads an image (P8).
-func Decode(b []byte) (api.Image, api.Errno, int) { return api.Image{}, api.OK, 0 }
+func Decode(b []byte) (api.Image, api.Errno, int) { return image.Decode(b) }
 
 // Symbolize tells the frames that some pcs of an image stand for (P9).
-func Symbolize(b []byte, pcs []int) ([]api.Frame, api.Errno) { return nil, api.OK }
+func Symbolize(b []byte, pcs []int) ([]api.Frame, api.Errno) { return image.Symbolize(b, pcs) }
 
 // Print writes frames (P10).
-func Print(l []api.Frame) (string, api.Errno) { return "", api.OK }
+func Print(l []api.Frame) (string, api.Errno) { return frame.Print(l) }
 
 // Build makes the image of a program's code (P11).
 func Build(p api.Program, budget int) ([]byte, api.Errno) { return nil, api.OK }
