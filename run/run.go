@@ -21,16 +21,21 @@ type frame struct {
 	locals [api.MaxLocals]int
 }
 
+// Spot is where a frame is: at an op of a function, both by their numbers.
+type Spot struct {
+	Func, Op int
+}
+
 // Behind tells how the run of a program stands behind n steps.
 func Behind(p api.Program, args []int, n int) (api.State, api.Errno) {
 	r, e := New(p, args)
 	if e != api.OK {
 		return api.State{}, e
 	}
-	if n < 0 || n > api.MaxSteps {
-		return api.State{}, api.ErrArg
+	_, e = r.Step(n)
+	if e != api.OK {
+		return api.State{}, e
 	}
-	r.Step(n)
 	return r.State(), api.OK
 }
 
@@ -63,11 +68,17 @@ func argsMayBe(args []int, params int) bool {
 	return true
 }
 
-// Step takes n steps, or fewer if the run ends.
-func (r *Run) Step(n int) {
-	for k := 0; k < n && r.goesOn(); k++ {
-		r.step()
+// Step takes n steps, or fewer if the run ends, and tells how many.
+func (r *Run) Step(n int) (int, api.Errno) {
+	if n < 0 || n > api.MaxSteps {
+		return 0, api.ErrArg
 	}
+	taken := 0
+	for taken < n && r.goesOn() {
+		r.step()
+		taken = taken + 1
+	}
+	return taken, api.OK
 }
 
 // goesOn tells whether there is a next op. A run that New did not make has none.
@@ -176,4 +187,13 @@ func (r *Run) State() api.State {
 		s.Frames = append(s.Frames, api.Frame{Func: fn.Name, File: fn.File, Line: op.Line})
 	}
 	return s
+}
+
+// Spots tells where the frames are, the outermost first.
+func (r *Run) Spots() []Spot {
+	var l []Spot
+	for _, f := range r.frames {
+		l = append(l, Spot{Func: f.fn, Op: f.at})
+	}
+	return l
 }

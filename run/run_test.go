@@ -2,6 +2,7 @@ package run_test
 
 import (
 	"reflect"
+	"slices"
 	"testing"
 
 	"unfold/api"
@@ -33,7 +34,10 @@ func TestStepByStep(t *testing.T) {
 			if got := r.State(); !reflect.DeepEqual(got, want) {
 				t.Errorf("behind %d steps, %d at once: %+v, want %+v", n, size, got, want)
 			}
-			r.Step(size)
+			left := min(size, max(0, 4-n))
+			if taken, e := r.Step(size); taken != left || e != api.OK {
+				t.Errorf("behind %d steps: Step(%d) = %d, %d, want %d", n, size, taken, e, left)
+			}
 		}
 		if s := r.State(); s.Status != api.Done || s.Value != 42 || len(s.Frames) != 0 {
 			t.Errorf("at the end: %+v", s)
@@ -79,10 +83,26 @@ func TestNewWrong(t *testing.T) {
 func TestStepOfNone(t *testing.T) {
 	r, _ := run.New(twice(), []int{1})
 	want := r.State()
-	for _, n := range []int{0, -1, -1 << 63} {
-		r.Step(n)
+	for _, n := range []int{0, -1, -1 << 63, api.MaxSteps + 1, 1<<63 - 1} {
+		wantE := api.ErrArg
+		if n == 0 {
+			wantE = api.OK
+		}
+		if taken, e := r.Step(n); taken != 0 || e != wantE {
+			t.Errorf("Step(%d) = %d, %d, want %d", n, taken, e, wantE)
+		}
 		if got := r.State(); !reflect.DeepEqual(got, want) {
 			t.Errorf("Step(%d): %+v, want %+v", n, got, want)
 		}
+	}
+}
+
+func TestSpots(t *testing.T) {
+	r, _ := run.New(twice(), []int{21})
+	for n, want := range [][]run.Spot{{{Func: 0, Op: 0}}, {{Func: 0, Op: 0}, {Func: 1, Op: 0}}, {{Func: 0, Op: 0}, {Func: 1, Op: 1}}, {{Func: 0, Op: 1}}, {}} {
+		if l := r.Spots(); !slices.Equal(l, want) {
+			t.Errorf("behind %d steps: %v, want %v", n, l, want)
+		}
+		r.Step(1)
 	}
 }

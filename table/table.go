@@ -138,3 +138,17 @@ func Values(l []api.Span) []int {
 	}
 	return values
 }
+
+// Of makes the table that has a Value at each pc.
+func Of(values []int) []api.Span {
+	var l []api.Span
+	for _, v := range values {
+		last := len(l) - 1
+		if last >= 0 && l[last].Value == v {
+			l[last].Len = l[last].Len + 1
+		} else {
+			l = append(l, api.Span{Value: v, Len: 1})
+		}
+	}
+	return l
+}

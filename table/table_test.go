@@ -1,6 +1,7 @@
 package table
 
 import (
+	"slices"
 	"testing"
 
 	"unfold/api"
@@ -62,5 +63,21 @@ func TestValues(t *testing.T) {
 	}
 	if n := Pcs(nil); n != 0 {
 		t.Errorf("Pcs of nothing: %d", n)
+	}
+}
+
+// Of is what Values is taken back by: no two neighbours have the same Value.
+func TestOf(t *testing.T) {
+	for _, l := range [][]api.Span{
+		nil,
+		{{Value: 0, Len: 1}},
+		{{Value: 3, Len: 1}, {Value: 4, Len: 1}, {Value: 3, Len: 1}},
+		{{Value: 7, Len: 2}, {Value: 2, Len: 300}, {Value: 7, Len: 1}},
+		{{Value: 9999, Len: 999}, {Value: 0, Len: 1}},
+		{{Value: 5, Len: 1000}},
+	} {
+		if got := Of(Values(l)); !slices.Equal(got, l) {
+			t.Errorf("Of(Values(%v)) = %v", l, got)
+		}
 	}
 }

@@ -27,6 +27,20 @@ func small() api.Program {
 	}}
 }
 
+// wrongHead is the small program with a head that may not be.
+func wrongHead() api.Program {
+	p := small()
+	p.Funcs[1].File = ""
+	return p
+}
+
+// wrongOp is the small program with an op that may not be.
+func wrongOp() api.Program {
+	p := small()
+	p.Funcs[2].Body[0].C = 2
+	return p
+}
+
 // broad has every code, and a function with as many locals and ops as there may be.
 func broad() api.Program {
 	long := []api.Op{op(api.Add, 1, 7, 0, 6), op(api.Sub, 2, 0, 7, 7), op(api.Div, 3, 7, 7, 0), op(api.Jump, 4, 7, 29, 0), op(api.Set, 5, 0, 999, 0)}

@@ -203,9 +203,7 @@ func TestP6NotNamed(t *testing.T) {
 }
 
 func TestP6Wrong(t *testing.T) {
-	head, ops := small(), small()
-	head.Funcs[1].File = ""
-	ops.Funcs[2].Body[0].C = 2
+	head, ops := wrongHead(), wrongOp()
 	for _, c := range []struct {
 		what string
 		p    api.Program

@@ -3,8 +3,10 @@ package unfold
 
 import (
 	"unfold/api"
+	"unfold/code"
 	"unfold/frame"
 	"unfold/image"
+	"unfold/machine"
 	"unfold/number"
 	"unfold/program"
 	"unfold/run"
@@ -47,22 +49,32 @@ func Symbolize(b []byte, pcs []int) ([]api.Frame, api.Errno) { return image.Symb
 func Print(l []api.Frame) (string, api.Errno) { return frame.Print(l) }
 
 // Build makes the image of a program's code (P11).
-func Build(p api.Program, budget int) ([]byte, api.Errno) { return nil, api.OK }
+func Build(p api.Program, budget int) ([]byte, api.Errno) { return code.Build(p, budget) }
 
 // Machine is a run of a program's code.
-type Machine struct{}
+type Machine struct {
+	own machine.Machine
+}
 
 // New makes a machine (P12).
-func New(p api.Program, budget int, args []int) (*Machine, api.Errno) { return nil, api.OK }
+func New(p api.Program, budget int, args []int) (*Machine, api.Errno) {
+	own, e := machine.New(p, budget, args)
+	if e != api.OK {
+		return nil, e
+	}
+	return &Machine{own: own}, api.OK
+}
 
 // Step takes steps, and tells how many (P12).
-func (m *Machine) Step(n int) (int, api.Errno) { return 0, api.OK }
+func (m *Machine) Step(n int) (int, api.Errno) { return m.own.Step(n) }
 
 // State tells how the run stands, and the value that was given back (P12).
-func (m *Machine) State() (int, int) { return 0, 0 }
+func (m *Machine) State() (int, int) { return m.own.State() }
 
 // Pcs tells the pcs of the frames that are not inlined, the innermost first (P12).
-func (m *Machine) Pcs() []int { return nil }
+func (m *Machine) Pcs() []int { return m.own.Pcs() }
 
 // Trace runs a program and writes its frames (P13).
-func Trace(p api.Program, budget int, args []int, n int) (string, api.Errno) { return "", api.OK }
+func Trace(p api.Program, budget int, args []int, n int) (string, api.Errno) {
+	return machine.Trace(p, budget, args, n)
+}
