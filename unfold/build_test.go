@@ -370,7 +370,8 @@ func TestP11NamesAndFiles(t *testing.T) {
 	buildsAsTold(t, p, 7)
 }
 
-// brief are all programs of n functions with at most some ops: Calls, ops that do nothing, Rets.
+// brief calls f with every program of n functions that have at most some ops each:
+// Calls and Sets in any order, and one Ret at the end.
 func brief(n, ops int, f func(p api.Program)) {
 	var bodies [][]api.Op
 	var more func(head []api.Op)
